@@ -1,6 +1,8 @@
-"""Whether the package's files keep to the part of Python that the program is written in (rules L1 to L28).
+"""Whether the package's files keep to the part of Python that the program is written in.
 
-What can be seen in a file's text or in its parsed form is looked at here; the rest is asked of whoever writes it.
+Many of the rules L1 to L28 are looked at here, not all: what L15, L19, L22, L23, L27 and L28 say of lists kept at a
+file's top, of what stands in a try, of keywords, of lists changed while walked, of powers and of methods with two
+underscores is not, or only in part. A file that passes may still break these.
 """
 
 import ast
