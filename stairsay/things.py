@@ -25,16 +25,21 @@ def has_form(stock, kind, thing):
     return maker in stock.makers(kind) and len(thing[1]) == len(stock.parts(maker))
 
 
-def size(thing):
-    total = 0
+# How many makers stand in each layer, from the outside inwards.
+def layer_counts(thing):
+    counts = []
     layer = [thing]
     while layer:
-        total += len(layer)
+        counts.append(len(layer))
         below = []
         for maker, parts in layer:
             below.extend(parts)
         layer = below
-    return total
+    return counts
+
+
+def size(thing):
+    return sum(layer_counts(thing))
 
 
 def least(stock, kind):

@@ -1,8 +1,8 @@
 """Whether the package's files keep to the part of Python that the program is written in.
 
-Many of the rules L1 to L28 are looked at here, not all: what L15, L19, L22, L23, L27 and L28 say of lists kept at a
-file's top, of what stands in a try, of keywords, of lists changed while walked, of powers and of methods with two
-underscores is not, or only in part. A file that passes may still break these.
+Many of the rules L1 to L28 are looked at here, not all: what L15, L19, L23 and L28 say of lists kept at a file's top,
+of what stands in a try, of lists changed while walked and of methods with two underscores is not, or only in part. A
+file that passes may still break these.
 """
 
 import ast
@@ -22,8 +22,8 @@ Pow BitAnd BitOr BitXor LShift RShift Invert USub UAdd Not And Or Eq NotEq Lt Lt
 OWN_NAMES = """len range enumerate zip min max sum abs sorted reversed int str bool list tuple dict set frozenset
 isinstance ord repr any all divmod Exception ValueError TypeError KeyError IndexError LookupError ZeroDivisionError
 ArithmeticError OverflowError RuntimeError NotImplementedError AttributeError StopIteration""".split()
-METHODS = """append clear copy count endswith extend find get index insert isalnum isalpha isdigit islower isspace isupper
-items join keys ljust lower lstrip partition pop remove replace reverse rfind rjust rpartition rsplit rstrip setdefault
+METHODS = """append clear copy count endswith extend find get index insert isalnum isalpha isdigit islower isspace
+isupper items join keys ljust lower lstrip partition pop remove replace reverse rfind rjust rpartition rsplit rstrip setdefault
 split splitlines startswith strip update upper values zfill bit_length""".split()
 UNDERSCORED = "__init__ __eq__ __repr__ __str__ __len__".split()
 WORDS = """type typing typing_extensions enum Enum IntEnum StrEnum Flag IntFlag Generic Protocol ABC ABCMeta namedtuple
@@ -170,6 +170,37 @@ class TestForms(unittest.TestCase):
         for name, node in nodes(ast.ListComp):
             self.assertEqual(len(node.generators), 1, where(name, node))
             self.assertLessEqual(len(node.generators[0].ifs), 1, where(name, node))
+
+    def test_texts_with_braces_hold_plain_names(self):
+        for name, node in nodes(ast.FormattedValue):
+            self.assertIsInstance(node.value, ast.Name, where(name, node))
+            self.assertIsNone(node.format_spec, where(name, node))
+            self.assertIn(node.conversion, (-1, ord("r")), where(name, node))
+
+    def test_keywords(self):
+        allowed = {"sorted": ("key", "reverse"), "min": ("key", "default"), "max": ("key", "default"),
+                   "sum": ("start",), "enumerate": ("start",), "zip": ("strict",)}
+        for name, node in nodes(ast.Call):
+            for keyword in node.keywords:
+                self.assertIn(keyword.arg, allowed.get(ast.unparse(node.func), ()), where(name, node))
+
+    def test_powers_are_written_out(self):
+        for name, node in nodes(ast.BinOp):
+            if isinstance(node.op, ast.Pow):
+                self.assertIn(ast.unparse(node.right), [str(k) for k in range(65)], where(name, node))
+
+    def test_pythons_own_are_called_where_they_stand(self):
+        kept = [part for part in OWN_NAMES if part[0].islower()]
+        for name, tree in TREES.items():
+            parent = parents(tree)
+            for node in ast.walk(tree):
+                if isinstance(node, ast.Name) and node.id in kept:
+                    above = parent[node]
+                    by_isinstance = isinstance(above, (ast.Tuple, ast.Call)) and node.id in (
+                        "int", "str", "bool", "list", "tuple", "dict")
+                    as_key = isinstance(above, ast.keyword) and above.arg == "key"
+                    called = isinstance(above, ast.Call) and above.func == node
+                    self.assertTrue(called or as_key or by_isinstance, where(name, node))
 
     def test_is_stands_beside_none_true_and_false(self):
         for name, node in nodes(ast.Compare):

@@ -1,27 +1,12 @@
 import unittest
 
-from samples import (ALL_SAMPLES, lines, pairs, random_stock, rounds, signs, single, steps, towers, trees, wide)
+from samples import (ALL_SAMPLES, END, NONE, line, lines, number, pairs, random_stock, rounds, signs, single, steps,
+                     towers, trees, wide)
 from stairsay.errors import NoKind
 from stairsay.stocks import Stock
 from stairsay.things import is_thing, least, size, things
 
-NONE = ("none", ())
-END = ("end", ())
 STONE = ("stone", ())
-
-
-def number(count):
-    thing = NONE
-    for k in range(count):
-        thing = ("next", (thing,))
-    return thing
-
-
-def line(*numbers):
-    thing = END
-    for count in reversed(numbers):
-        thing = ("put", (number(count), thing))
-    return thing
 
 
 def full_tree(deep):
